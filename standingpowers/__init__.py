@@ -1,0 +1,1 @@
+"""Standingpowers: equations over small primes, solved with papers."""

@@ -1,0 +1,115 @@
+"""The interface: names, arguments and the files in which they are defined; the form of the package."""
+
+import ast
+import importlib
+import inspect
+import pathlib
+import unittest
+
+PACKAGE = pathlib.Path(__file__).resolve().parent.parent / "standingpowers"
+
+FUNCTIONS = {
+    "spaces": {
+        "inverse": ["prime", "number"],
+        "is_name": ["text"],
+        "degree_of": ["power"],
+        "divides": ["one", "other"],
+        "is_less": ["order", "one", "other"],
+        "value_of": ["space", "power", "point"],
+    },
+    "polynomials": {
+        "is_polynomial": ["space", "thing"],
+        "constant": ["space", "number"],
+        "unknown": ["space", "index"],
+        "plus": ["space", "one", "other"],
+        "minus": ["space", "one", "other"],
+        "times": ["space", "one", "other"],
+        "scaled": ["space", "one", "number"],
+        "raised": ["space", "one", "exponent"],
+        "value": ["space", "one", "point"],
+        "degree": ["one"],
+        "leading": ["one", "order"],
+        "number_of": ["one", "power"],
+        "speaks_of": ["space", "one"],
+        "replaced": ["first", "one", "second", "polynomials"],
+    },
+}
+
+# For each class the arguments with which it is made, and its methods with theirs.
+CLASSES = {
+    "errors": {
+        "SyntaxFault": (["line", "column"], {}),
+        "InvalidSystem": (["line"], {}),
+        "InvalidCircuit": (["line"], {}),
+        "InvalidPaper": (["line"], {}),
+    },
+    "spaces": {
+        "Space": (["prime", "names"],
+                  {"points": [], "powers": ["order"], "is_point": ["thing"], "zero": []}),
+    },
+}
+
+
+def arguments_of(thing):
+    return list(inspect.signature(thing).parameters)
+
+
+class InterfaceTest(unittest.TestCase):
+    def test_functions(self):
+        for file, functions in FUNCTIONS.items():
+            module = importlib.import_module("standingpowers." + file)
+            for name, arguments in functions.items():
+                with self.subTest(file=file, name=name):
+                    function = getattr(module, name)
+                    self.assertEqual(function.__module__, module.__name__)
+                    self.assertEqual(arguments_of(function), arguments)
+
+    def test_classes(self):
+        for file, classes in CLASSES.items():
+            module = importlib.import_module("standingpowers." + file)
+            for name, (arguments, methods) in classes.items():
+                with self.subTest(file=file, name=name):
+                    kind = getattr(module, name)
+                    self.assertEqual(kind.__module__, module.__name__)
+                    self.assertEqual(arguments_of(kind), arguments)
+                    for method, its_arguments in methods.items():
+                        self.assertIn(method, vars(kind))
+                        self.assertEqual(arguments_of(vars(kind)[method]), ["self"] + its_arguments)
+
+
+class FormTest(unittest.TestCase):
+    def files(self):
+        return sorted(PACKAGE.rglob("*.py"))
+
+    def test_files(self):
+        for path in PACKAGE.rglob("*"):
+            if path.is_file() and "__pycache__" not in path.parts:
+                self.assertEqual(path.suffix, ".py", path)
+        self.assertTrue((PACKAGE / "__init__.py").is_file())
+
+    def test_sizes_and_characters(self):
+        for path in self.files():
+            text = path.read_bytes().decode("ascii")
+            lines = text.split("\n")
+            self.assertLessEqual(len(lines), 399, path)
+            self.assertLessEqual(max(len(line) for line in lines), 120, path)
+            self.assertTrue(all(sign == "\n" or " " <= sign <= "~" for sign in text), path)
+
+    def test_functions_are_small(self):
+        for path in self.files():
+            for node in ast.walk(ast.parse(path.read_text())):
+                if isinstance(node, ast.FunctionDef):
+                    self.assertLessEqual(node.end_lineno - node.lineno + 1, 40, (path, node.name))
+
+    def test_imports(self):
+        library = ("heapq", "math", "itertools", "collections")
+        for path in self.files():
+            for node in ast.walk(ast.parse(path.read_text())):
+                self.assertNotIsInstance(node, ast.Import, path)
+                if isinstance(node, ast.ImportFrom):
+                    self.assertEqual(node.level, 0, path)
+                    self.assertTrue(node.module in library or node.module.startswith("standingpowers."), path)
+
+
+if __name__ == "__main__":
+    unittest.main()
