@@ -1,7 +1,7 @@
 """Polynomials: sums, products, values, replacing (section 2 of the document)."""
 
-from standingpowers.grids import all_values, from_values
 from standingpowers.spaces import degree_of, value_of
+from standingpowers.tables import polynomial_of, table_of
 
 # From so many pairs for each point on, multiplying pair by pair takes longer
 # than multiplying the values at all points.
@@ -53,9 +53,9 @@ def times(space, one, other):
     if len(one) * len(other) <= PAIRS_FOR_A_POINT * len(space.points()):
         return multiplied_by_pairs(space, one, other)
     # The values tell which polynomial it is, and those of a product are products.
-    firsts = all_values(space, one)
-    seconds = all_values(space, other)
-    return from_values(space, [first * second for first, second in zip(firsts, seconds)])
+    firsts = table_of(space, one)
+    seconds = table_of(space, other)
+    return polynomial_of(space, [first * second for first, second in zip(firsts, seconds)])
 
 
 def raised(space, one, exponent):
@@ -100,9 +100,9 @@ def speaks_of(space, one):
 
 def replaced(first, one, second, polynomials):
     """The polynomial with the unknowns of the first space replaced by polynomials of the second."""
-    value_by_point = {point: number for point, number in zip(first.points(), all_values(first, one))}
-    columns = [all_values(second, polynomial) for polynomial in polynomials]
-    return from_values(second, [value_by_point[point] for point in zip(*columns)])
+    value_by_point = {point: number for point, number in zip(first.points(), table_of(first, one))}
+    columns = [table_of(second, polynomial) for polynomial in polynomials]
+    return polynomial_of(second, [value_by_point[point] for point in zip(*columns)])
 
 
 def gathered(space, totals):

@@ -33,6 +33,30 @@ FUNCTIONS = {
         "speaks_of": ["space", "one"],
         "replaced": ["first", "one", "second", "polynomials"],
     },
+    "tables": {
+        "table_of": ["space", "one"],
+        "polynomial_of": ["space", "table"],
+    },
+    "reading": {
+        "read_polynomial": ["space", "text"],
+        "write_polynomial": ["space", "one"],
+        "read_system": ["text"],
+        "write_system": ["system"],
+    },
+    "systems": {
+        "factors": ["system", "one"],
+        "shown": ["system", "one", "factors"],
+    },
+    "bases": {
+        "stand_over": ["space", "polynomials", "order"],
+        "divided": ["space", "one", "polynomials", "order"],
+        "remainder": ["space", "one", "polynomials", "order"],
+        "standing": ["space", "points", "order"],
+        "basis": ["space", "points", "order"],
+        "with_values": ["space", "points", "values", "order"],
+        "separators": ["space", "points", "order"],
+        "growth": ["space", "points"],
+    },
 }
 
 # For each class the arguments with which it is made, and its methods with theirs.
@@ -46,6 +70,9 @@ CLASSES = {
     "spaces": {
         "Space": (["prime", "names"],
                   {"points": [], "powers": ["order"], "is_point": ["thing"], "zero": []}),
+    },
+    "systems": {
+        "System": (["space", "equations"], {"is_solution": ["point"], "solutions": []}),
     },
 }
 

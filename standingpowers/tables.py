@@ -1,22 +1,22 @@
-"""From polynomials to their values at all points of a space, and back.
+"""Tables: the values of polynomials at all points of a space (point 2.3 of the document).
 
-Both ways are taken along one unknown after the other. This is far quicker
-than to reckon each value by itself.
+Both ways, to the table and back, are taken along one unknown after the other.
+This is far quicker than to reckon each value by itself.
 """
 
 from standingpowers.spaces import number_raised
 
 
-def all_values(space, one):
-    """The values of a polynomial at the points in order."""
+def table_of(space, one):
+    """The list of the values of a polynomial at the points in order."""
     number_by_power = {power: number for power, number in one}
     numbers = [number_by_power.get(power, 0) for power in space.powers("lex")]
     return turned(space, value_rows(space.prime), numbers)
 
 
-def from_values(space, values):
-    """The only polynomial that has these values at the points in order."""
-    numbers = turned(space, number_rows(space.prime), values)
+def polynomial_of(space, table):
+    """The only polynomial with this list of values at the points in order."""
+    numbers = turned(space, number_rows(space.prime), table)
     pairs = [(power, number) for power, number in zip(space.powers("lex"), numbers) if number != 0]
     return tuple(pairs[::-1])
 
