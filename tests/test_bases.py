@@ -156,6 +156,18 @@ class DividedTest(unittest.TestCase):
                 for order in ORDERS:
                     self.assert_divided(space, some_polynomials(prime, count, 4)[-1], polynomials, order)
 
+    def test_a_list_of_256_polynomials(self):
+        space = space_of(2, 8)
+        unknowns = [unknown(space, index) for index in range(8)]
+        # All products of three, four or more unknowns, and 0 often enough.
+        polynomials = [((power, 1), ((0,) * 8, 1)) for power in all_tuples(2, 8) if sum(power) > 2]
+        polynomials += [()] * (256 - len(polynomials))
+        for order in ORDERS:
+            found = stand_over(space, polynomials, order)
+            self.assertEqual(found, [power for power in plain_powers(2, 8, order) if sum(power) <= 2])
+            self.assert_divided(space, times(space, times(space, *unknowns[:2]), unknowns[5]), polynomials, order)
+            self.assert_divided(space, some_polynomials(2, 8, 6)[-1], polynomials, order)
+
     def test_every_pair_of_a_tiny_space(self):
         for prime, count in ((2, 2), (3, 1)):
             space = space_of(prime, count)
