@@ -1,7 +1,7 @@
 """Polynomials: sums, products, values, replacing (section 2 of the document)."""
 
 from standingpowers.spaces import degree_of, value_of
-from standingpowers.tables import polynomial_of, table_of
+from standingpowers.tables import polynomial_of, table_of, value_by_point
 
 # From so many pairs for each point on, multiplying pair by pair takes longer
 # than multiplying the values at all points.
@@ -16,6 +16,11 @@ def is_polynomial(space, thing):
             return False
     powers = [pair[0] for pair in thing]
     return all([powers[at - 1] > powers[at] for at in range(1, len(powers))])
+
+
+def are_polynomials(space, things):
+    """Whether all things of a list are polynomials of the space."""
+    return all([is_polynomial(space, thing) for thing in things])
 
 
 def constant(space, number):
@@ -100,9 +105,9 @@ def speaks_of(space, one):
 
 def replaced(first, one, second, polynomials):
     """The polynomial with the unknowns of the first space replaced by polynomials of the second."""
-    value_by_point = {point: number for point, number in zip(first.points(), table_of(first, one))}
+    numbers = value_by_point(first, one)
     columns = [table_of(second, polynomial) for polynomial in polynomials]
-    return polynomial_of(second, [value_by_point[point] for point in zip(*columns)])
+    return polynomial_of(second, [numbers[point] for point in zip(*columns)])
 
 
 def gathered(space, totals):

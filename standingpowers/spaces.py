@@ -3,6 +3,7 @@
 from standingpowers.errors import InvalidSpace
 
 PRIMES = (2, 3, 5, 7)
+ORDERS = ("lex", "degree")
 LETTERS = "abcdefghijklmnopqrstuvwxyz"
 LETTERS_AND_DIGITS = "abcdefghijklmnopqrstuvwxyz0123456789"
 LONGEST_NAME = 12

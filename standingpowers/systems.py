@@ -1,6 +1,6 @@
 """Systems of equations, their solutions, and factors that show what follows (section 4 of the document)."""
 
-from standingpowers.polynomials import value
+from standingpowers.polynomials import are_polynomials, value
 from standingpowers.spaces import inverse
 from standingpowers.tables import polynomial_of, table_of
 
@@ -55,6 +55,18 @@ def shown(system, one, factors):
         values = table_of(system.space, factor)
         total = [number + first * second for number, first, second in zip(total, values, table)]
     return [number % system.space.prime for number in total] == wanted
+
+
+def shows(system, one, things):
+    """Whether things in the place of factors are polynomials of the space that show the polynomial."""
+    if len(things) != len(system.equations) or not are_polynomials(system.space, things):
+        return False
+    return shown(system, one, things)
+
+
+def solves(system, thing):
+    """Whether a thing in the place of a point is a point of the space and a solution."""
+    return system.space.is_point(thing) and system.is_solution(thing)
 
 
 def first_that_fails(tables, at):

@@ -21,6 +21,11 @@ def polynomial_of(space, table):
     return tuple(pairs[::-1])
 
 
+def value_by_point(space, one):
+    """A dict with the value of a polynomial for each point."""
+    return {point: number for point, number in zip(space.points(), table_of(space, one))}
+
+
 def value_rows(prime):
     """For each number a row with the values of its powers, from exponent 0 on."""
     return [[number_raised(prime, number, exponent) for exponent in range(prime)] for number in range(prime)]

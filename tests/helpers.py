@@ -3,7 +3,9 @@
 import itertools
 import random
 
+from standingpowers.polynomials import constant, minus, plus, times, unknown
 from standingpowers.spaces import Space
+from standingpowers.systems import System
 
 NAMES = ["x", "y", "z", "u", "v", "w", "s", "t"]
 
@@ -70,3 +72,78 @@ def every_polynomial(prime, count):
     powers = all_tuples(prime, count)[::-1]
     for numbers in itertools.product(range(prime), repeat=len(powers)):
         yield tuple((power, number) for power, number in zip(powers, numbers) if number)
+
+
+def plain_solutions(system):
+    """The solutions by the words of point 4.1."""
+    space = system.space
+    return [point for point in all_tuples(space.prime, space.count)
+            if all(plain_value(space.prime, one, point) == 0 for one in system.equations)]
+
+
+def sum_of_products(space, firsts, seconds):
+    total = ()
+    for first, second in zip(firsts, seconds):
+        total = plus(space, total, times(space, first, second))
+    return total
+
+
+def some_systems(prime, count):
+    """Always the same systems: without equations, without solutions, and others."""
+    space = space_of(prime, count)
+    chance = random.Random(prime * 10 + count)
+    found = [System(space, []), System(space, [()]), System(space, [constant(space, 1)]),
+             System(space, [(), unknown(space, 0), ()]),
+             System(space, [unknown(space, 0), minus(space, unknown(space, 0), constant(space, 1))])]
+    polynomials = some_polynomials(prime, count, 12, 7)
+    for many in (1, 2, 3, 5):
+        found.append(System(space, chance.sample(polynomials[3:], many)))
+    # Equations that are 0 at one point at least.
+    point = tuple(chance.randrange(prime) for _ in range(count))
+    shifted = [minus(space, one, constant(space, plain_value(prime, one, point))) for one in polynomials[3:]]
+    for many in (1, 2, 4):
+        found.append(System(space, chance.sample(shifted, many)))
+    return found
+
+
+def wrong_forms(space, one):
+    """Tuples of pairs that are no polynomials of the space, though most would have the values of a polynomial."""
+    prime, count = space.prime, space.count
+    powers = [power for power, number in one]
+    missing = [power for power in all_tuples(prime, count) if power not in powers]
+    found = []
+    for power in missing[:1] + missing[-1:]:
+        others = [((power, number),) for number in (0, prime, -prime, 2 * prime)] + [((power, 1),) * prime]
+        found += [tuple(sorted(one + pairs, reverse=True)) for pairs in others]
+    unit, greater = ((exponent,) + (0,) * (count - 1) for exponent in (1, prime))
+    if unit in missing:
+        found.append(tuple(sorted(one + ((greater, 1), (unit, prime - 1)), reverse=True)))
+    if len(one) > 1:
+        found.append(one[::-1])
+    if one:
+        found.append(tuple((power + (0,), number) for power, number in one))
+        found.append(tuple((power[:-1], number) for power, number in one))
+    for at, (power, number) in enumerate(one):
+        found += [one[:at] + others + one[at + 1:] for others in wrong_pairs(prime, power, number)]
+    return found
+
+
+def wrong_pairs(prime, power, number):
+    """What a pair of a polynomial may be replaced by, so that it is none any more."""
+    found = [((power, number - prime),), ((power, number + prime),), ((power, 1),) * (number + prime),
+             ((power + (0,), number),), (((0,) + power, number),), ((power[:-1], number),), ((power[1:], number),)]
+    for index, exponent in enumerate(power):
+        if exponent > 0:
+            greater = power[:index] + (exponent + prime - 1,) + power[index + 1:]
+            lower = power[:index] + (exponent - prime,) + power[index + 1:]
+            found += [((greater, number),), ((lower, number),)]
+    return found
+
+
+def wrong_points(prime, point):
+    """Tuples of integers that are no points of the space of a point, though some look like it."""
+    found = [(), point + (0,), (0,) + point, point[:-1], point[1:], point + point]
+    for index, number in enumerate(point):
+        for other in (number + prime, number - prime, prime, -1, 10 ** 9 * prime + number):
+            found.append(point[:index] + (other,) + point[index + 1:])
+    return found

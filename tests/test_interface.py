@@ -57,6 +57,19 @@ FUNCTIONS = {
         "separators": ["space", "points", "order"],
         "growth": ["space", "points"],
     },
+    "papers": {
+        "paper_of": ["system", "order"],
+        "accepts": ["system", "paper"],
+    },
+    "following": {
+        "follows": ["system", "one"],
+        "judge_follows": ["system", "one", "answer"],
+    },
+    "shadows": {
+        "shadow": ["system", "names"],
+        "lift": ["system", "names", "point"],
+        "shadow_basis": ["space", "polynomials", "k"],
+    },
 }
 
 # For each class the arguments with which it is made, and its methods with theirs.
@@ -73,6 +86,9 @@ CLASSES = {
     },
     "systems": {
         "System": (["space", "equations"], {"is_solution": ["point"], "solutions": []}),
+    },
+    "papers": {
+        "Paper": (["order", "rows", "points"], {}),
     },
 }
 

@@ -2,45 +2,12 @@
 
 import copy
 import itertools
-import random
 import unittest
 
-from helpers import (SIZES, SMALL_SIZES, all_tuples, every_polynomial, plain_value, some_polynomials, space_of,
-                     well_formed)
+from helpers import (SIZES, SMALL_SIZES, all_tuples, every_polynomial, plain_solutions, plain_value,
+                     some_polynomials, some_systems, space_of, sum_of_products, well_formed)
 from standingpowers.polynomials import constant, minus, plus, times, unknown
 from standingpowers.systems import System, factors, shown
-
-
-def plain_solutions(system):
-    """The solutions by the words of point 4.1."""
-    space = system.space
-    return [point for point in all_tuples(space.prime, space.count)
-            if all(plain_value(space.prime, one, point) == 0 for one in system.equations)]
-
-
-def sum_of_products(space, firsts, seconds):
-    total = ()
-    for first, second in zip(firsts, seconds):
-        total = plus(space, total, times(space, first, second))
-    return total
-
-
-def some_systems(prime, count):
-    """Always the same systems: without equations, without solutions, and others."""
-    space = space_of(prime, count)
-    chance = random.Random(prime * 10 + count)
-    found = [System(space, []), System(space, [()]), System(space, [constant(space, 1)]),
-             System(space, [(), unknown(space, 0), ()]),
-             System(space, [unknown(space, 0), minus(space, unknown(space, 0), constant(space, 1))])]
-    polynomials = some_polynomials(prime, count, 12, 7)
-    for many in (1, 2, 3, 5):
-        found.append(System(space, chance.sample(polynomials[3:], many)))
-    # Equations that are 0 at one point at least.
-    point = tuple(chance.randrange(prime) for _ in range(count))
-    shifted = [minus(space, one, constant(space, plain_value(prime, one, point))) for one in polynomials[3:]]
-    for many in (1, 2, 4):
-        found.append(System(space, chance.sample(shifted, many)))
-    return found
 
 
 class SystemTest(unittest.TestCase):
