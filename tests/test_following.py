@@ -169,6 +169,12 @@ class JudgeTest(unittest.TestCase):
                 right = point in solutions and plain_value(system.space.prime, one, point) != 0
                 self.assertIs(judge_follows(system, one, ("fails", point)), right)
 
+    def test_a_word_that_is_none(self):
+        for system, one, (kind, told) in self.cases():
+            if kind == "fails":
+                for word in ("", "fail", "Fails", "two"):
+                    self.assert_wrong(system, one, (word, told))
+
     def test_what_is_accepted_is_true(self):
         space = space_of(2, 2)
         everything = list(every_polynomial(2, 2))

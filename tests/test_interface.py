@@ -70,6 +70,31 @@ FUNCTIONS = {
         "lift": ["system", "names", "point"],
         "shadow_basis": ["space", "polynomials", "k"],
     },
+    "formulas": {
+        "formula": ["system", "name", "names"],
+        "judge_formula": ["system", "name", "names", "answer"],
+    },
+    "sets": {
+        "mark": ["system"],
+        "both": ["one", "other"],
+        "either": ["one", "other"],
+        "without": ["one", "other"],
+        "opposite": ["one"],
+        "compare": ["one", "other"],
+        "judge_compare": ["one", "other", "answer"],
+    },
+    "maps": {
+        "led": ["first", "polynomials", "point"],
+        "image": ["system", "second", "polynomials"],
+        "origin": ["first", "polynomials", "system"],
+        "way_back": ["system", "second", "polynomials"],
+        "judge_back": ["system", "second", "polynomials", "answer"],
+    },
+    "lamps": {
+        "lamps": ["prime", "neighbours", "start", "goal"],
+        "least_way": ["prime", "neighbours", "start", "goal"],
+        "colourings": ["prime", "count", "edges"],
+    },
 }
 
 # For each class the arguments with which it is made, and its methods with theirs.
