@@ -34,15 +34,19 @@ def factors(system, one):
     prime = system.space.prime
     tables = system.tables()
     wanted = table_of(system.space, one)
-    found = [[0] * len(wanted) for _ in tables]
+    values_by_index = {}
     for at, number in enumerate(wanted):
         if number != 0:
             index = first_that_fails(tables, at)
             if index is None:
                 return None
             # This equation alone makes the number here; all other factors stay 0 at the point.
-            found[index][at] = number * inverse(prime, tables[index][at]) % prime
-    return [polynomial_of(system.space, table) for table in found]
+            values = values_by_index.setdefault(index, [0] * len(wanted))
+            values[at] = number * inverse(prime, tables[index][at]) % prime
+    found = [()] * len(tables)
+    for index, values in values_by_index.items():
+        found[index] = polynomial_of(system.space, values)
+    return found
 
 
 def shown(system, one, factors):
@@ -52,8 +56,10 @@ def shown(system, one, factors):
     wanted = table_of(system.space, one)
     total = [0] * len(wanted)
     for factor, table in zip(factors, system.tables()):
-        values = table_of(system.space, factor)
-        total = [number + first * second for number, first, second in zip(total, values, table)]
+        # Long lists of factors are mostly 0, which need not be reckoned.
+        if factor != ():
+            values = table_of(system.space, factor)
+            total = [number + first * second for number, first, second in zip(total, values, table)]
     return [number % system.space.prime for number in total] == wanted
 
 

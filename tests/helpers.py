@@ -2,6 +2,7 @@
 
 import itertools
 import random
+import re
 
 from standingpowers.polynomials import constant, minus, plus, times, unknown
 from standingpowers.spaces import Space
@@ -147,3 +148,57 @@ def wrong_points(prime, point):
         for other in (number + prime, number - prime, prime, -1, 10 ** 9 * prime + number):
             found.append(point[:index] + (other,) + point[index + 1:])
     return found
+
+
+def wrong_lengths(lists, many):
+    """A list of lists of factors with a list or a factor too many or too few; each list has so many factors."""
+    found = [lists + [[()] * many], [[()] * many] + lists, lists + [[]], lists + lists + [[()] * many]]
+    if lists:
+        found += [lists[1:], lists[:-1], []]
+    for at, chosen in enumerate(lists):
+        for others in (chosen + [()], [()] + chosen, chosen[:-1] if chosen else [()]):
+            found.append(lists[:at] + [others] + lists[at + 1:])
+    return found
+
+
+def wrong_factors(space, lists):
+    """A list of lists of factors of which one is no polynomial."""
+    for at, chosen in enumerate(lists[:2]):
+        for index, factor in enumerate(chosen[:2]):
+            for wrong in wrong_forms(space, factor):
+                others = chosen[:index] + [wrong] + chosen[index + 1:]
+                yield lists[:at] + [others] + lists[at + 1:]
+
+
+def some_sentence(chance, space, depth, polynomials=None):
+    """A sentence by chance that is at most so deep."""
+    polynomials = polynomials or some_polynomials(space.prime, space.count, 6, 2)
+    kind = chance.choice(["=", "/=", "not", "and", "or", "=>"]) if depth > 1 else chance.choice(["=", "/="])
+    if kind in ("=", "/="):
+        return (kind, chance.choice(polynomials), chance.choice(polynomials))
+    many = 1 if kind == "not" else 2
+    return (kind, *(some_sentence(chance, space, depth - 1, polynomials) for _ in range(many)))
+
+
+def changed_text(chance, text, signs, words):
+    """A text of lines of words with one or two changes: a sign, a word or a line more, less or elsewhere."""
+    for _ in range(chance.randrange(1, 3)):
+        kind = chance.randrange(5)
+        at = chance.randrange(len(text) + 1)
+        if kind == 0:
+            text = text[:at] + text[at + 1:]
+        elif kind == 1:
+            text = text[:at] + chance.choice(signs) + text[at:]
+        elif kind == 2:
+            parts = re.split(r"([ \n])", text)
+            parts[chance.randrange(0, len(parts), 2)] = chance.choice(words)
+            text = "".join(parts)
+        else:
+            lines = text.split("\n")
+            first, second = chance.randrange(len(lines)), chance.randrange(len(lines))
+            if kind == 3:
+                lines[first], lines[second] = lines[second], lines[first]
+            else:
+                lines.insert(first, lines[second])
+            text = "\n".join(lines)
+    return text

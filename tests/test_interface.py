@@ -1,6 +1,7 @@
 """The interface: names, arguments and the files in which they are defined; the form of the package."""
 
 import ast
+import builtins
 import importlib
 import inspect
 import pathlib
@@ -95,6 +96,18 @@ FUNCTIONS = {
         "least_way": ["prime", "neighbours", "start", "goal"],
         "colourings": ["prime", "count", "edges"],
     },
+    "circuits": {
+        "read_circuit": ["text"],
+        "write_circuit": ["circuit"],
+        "outputs_at": ["circuit", "point"],
+        "polynomials_of": ["circuit"],
+        "compare_circuits": ["one", "other"],
+    },
+    "written": {
+        "write_paper": ["space", "paper"],
+        "read_paper": ["space", "text"],
+        "audit": ["system", "text"],
+    },
 }
 
 # For each class the arguments with which it is made, and its methods with theirs.
@@ -115,7 +128,19 @@ CLASSES = {
     "papers": {
         "Paper": (["order", "rows", "points"], {}),
     },
+    "circuits": {
+        "Circuit": (["inputs", "gates", "outputs"], {}),
+    },
+    "desk": {
+        "Desk": ([], {"begin": ["name", "space"], "add": ["name", "one"], "drop": ["name", "index"], "close": ["name"],
+                      "undo": [], "redo": [], "names": [], "system": ["name"], "paper": ["name"], "count": ["name"],
+                      "follows": ["name", "one"], "remainder": ["name", "one"]}),
+    },
 }
+
+# All builtins that the package may use: none that reads a clock, a file or anything else from outside.
+BUILTINS = ["ValueError", "all", "any", "dict", "enumerate", "int", "len", "list", "max", "min", "range", "reversed",
+            "set", "sorted", "str", "sum", "tuple", "zip"]
 
 
 def arguments_of(thing):
@@ -123,6 +148,12 @@ def arguments_of(thing):
 
 
 class InterfaceTest(unittest.TestCase):
+    def test_objects_have_no_equality_of_their_own(self):
+        for file, classes in CLASSES.items():
+            module = importlib.import_module("standingpowers." + file)
+            for name in classes:
+                self.assertIs(getattr(module, name).__eq__, object.__eq__)
+
     def test_functions(self):
         for file, functions in FUNCTIONS.items():
             module = importlib.import_module("standingpowers." + file)
@@ -168,6 +199,12 @@ class FormTest(unittest.TestCase):
             for node in ast.walk(ast.parse(path.read_text())):
                 if isinstance(node, ast.FunctionDef):
                     self.assertLessEqual(node.end_lineno - node.lineno + 1, 40, (path, node.name))
+
+    def test_builtins(self):
+        for path in self.files():
+            for node in ast.walk(ast.parse(path.read_text())):
+                if isinstance(node, ast.Name) and node.id in dir(builtins):
+                    self.assertIn(node.id, BUILTINS, (path, node.lineno))
 
     def test_imports(self):
         library = ("heapq", "math", "itertools", "collections")

@@ -4,8 +4,8 @@ import copy
 import itertools
 import unittest
 
-from helpers import (SIZES, all_tuples, every_polynomial, plain_solutions, plain_table, plain_value,
-                     some_systems, space_of, sum_of_products, well_formed, wrong_forms, wrong_points)
+from helpers import (SIZES, all_tuples, every_polynomial, plain_solutions, plain_table, plain_value, some_systems,
+                     space_of, sum_of_products, well_formed, wrong_factors, wrong_lengths, wrong_points)
 from standingpowers.polynomials import constant, minus, scaled, times, unknown
 from standingpowers.sets import both, compare, either, judge_compare, mark, opposite, without
 from standingpowers.systems import System
@@ -270,26 +270,6 @@ class JudgeTest(unittest.TestCase):
                     wrong[at][index] = minus(one.space, wrong[at][index], constant(one.space, 1))
                     right = one.equations[index] == ()
                     self.assertIs(judge_compare(one, other, ("same", wrong, back)), right)
-
-
-def wrong_lengths(lists, many):
-    """A list of lists of factors with a list or a factor too many or too few; each list has so many factors."""
-    found = [lists + [[()] * many], [[()] * many] + lists, lists + [[]], lists + lists + [[()] * many]]
-    if lists:
-        found += [lists[1:], lists[:-1], []]
-    for at, chosen in enumerate(lists):
-        for others in (chosen + [()], [()] + chosen, chosen[:-1] if chosen else [()]):
-            found.append(lists[:at] + [others] + lists[at + 1:])
-    return found
-
-
-def wrong_factors(space, lists):
-    """A list of lists of factors of which one is no polynomial."""
-    for at, chosen in enumerate(lists[:2]):
-        for index, factor in enumerate(chosen[:2]):
-            for wrong in wrong_forms(space, factor):
-                others = chosen[:index] + [wrong] + chosen[index + 1:]
-                yield lists[:at] + [others] + lists[at + 1:]
 
 
 class ListsTest(unittest.TestCase):
