@@ -6,7 +6,7 @@ from standingpowers.spaces import LETTERS, LETTERS_AND_DIGITS
 from standingpowers.tables import value_rows
 
 DIGITS = "0123456789"
-SIGNS = "+-*^()"
+SIGNS = ("+", "-", "*", "^", "(", ")")
 LONGEST_NUMBER = 9
 
 
@@ -15,18 +15,20 @@ def expression_values(space, text, line, before):
 
     The text stands in a line behind so many other characters.
     """
-    reader = ExpressionReader(space, tokens_of(space, text), line, before)
+    reader = ExpressionReader(space, tokens_of(space, text, SIGNS, ()), line, before)
     values = reader.read_sum()
     if not reader.takes("end"):
         reader.refuse()
     return values
 
 
-def tokens_of(space, text):
+def tokens_of(space, text, signs, words):
     """The tokens of a text, each a tuple of its kind, its word and the number of characters before it.
 
-    The kinds are "number", "name" (of an unknown), the signs themselves,
-    "none" for what is no token, and "end", which stands behind the others.
+    The kinds are "number", "name" (of an unknown), the signs themselves, the
+    words themselves, which are no names then, "none" for what is no token, and
+    "end", which stands behind the others. Of two signs that fit at a place the
+    first one of the list counts.
     """
     tokens = []
     at = 0
@@ -34,17 +36,18 @@ def tokens_of(space, text):
         if text[at] == " ":
             at += 1
         else:
-            kind, end = kind_and_end(space, text, at)
+            kind, end = kind_and_end(space, text, at, signs, words)
             tokens.append((kind, text[at:end], at))
             at = end
     tokens.append(("end", "", len(text)))
     return tokens
 
 
-def kind_and_end(space, text, start):
+def kind_and_end(space, text, start, signs, words):
     """The kind of the token that starts at a place, and the place behind it."""
-    if text[start] in SIGNS:
-        return text[start], start + 1
+    for sign in signs:
+        if text.startswith(sign, start):
+            return sign, start + len(sign)
     if text[start] in DIGITS:
         end = run_end(text, start, DIGITS)
         followed = end < len(text) and text[end] in LETTERS
@@ -53,7 +56,10 @@ def kind_and_end(space, text, start):
         return "number", end
     if text[start] in LETTERS:
         end = run_end(text, start, LETTERS_AND_DIGITS)
-        if text[start:end] not in space.names:
+        word = text[start:end]
+        if word in words:
+            return word, end
+        if word not in space.names:
             return "none", end
         return "name", end
     return "none", start + 1

@@ -108,6 +108,22 @@ FUNCTIONS = {
         "read_paper": ["space", "text"],
         "audit": ["system", "text"],
     },
+    "sentences": {
+        "is_true": ["space", "sentence", "point"],
+        "polynomial_of_sentence": ["space", "sentence"],
+        "system_of": ["space", "sentences"],
+        "read_sentence": ["space", "text"],
+        "write_sentence": ["space", "sentence"],
+    },
+    "lean": {
+        "is_needless": ["system", "index"],
+        "lean": ["system"],
+        "judge_lean": ["system", "indexes"],
+    },
+    "machines": {
+        "check_safe": ["machine", "bad"],
+        "judge_safe": ["machine", "bad", "answer"],
+    },
 }
 
 # For each class the arguments with which it is made, and its methods with theirs.
@@ -135,6 +151,13 @@ CLASSES = {
         "Desk": ([], {"begin": ["name", "space"], "add": ["name", "one"], "drop": ["name", "index"], "close": ["name"],
                       "undo": [], "redo": [], "names": [], "system": ["name"], "paper": ["name"], "count": ["name"],
                       "follows": ["name", "one"], "remainder": ["name", "one"]}),
+    },
+    "codes": {
+        "Code": (["space", "points", "most"], {"carriers": [], "word": ["numbers"], "numbers": ["values"],
+                                               "distance": [], "nearest": ["values"]}),
+    },
+    "machines": {
+        "Machine": (["start", "step"], {"after": ["point"], "reached": [], "way": ["point"]}),
     },
 }
 
